@@ -1,0 +1,1 @@
+"""Heapstill: heaps of grains that topple till they are still."""

@@ -1,0 +1,156 @@
+"""Nets, heaps and slow reckonings by the document's words, for the tests to hold the program against."""
+
+import itertools
+import random
+from fractions import Fraction
+
+ONE_PLACE = (1, [(0, 1)], [])
+ONE_PLACE_THREE_ROADS = (1, [(0, 1), (0, 1), (0, 1)], [])
+PATH = (3, [(0, 1), (1, 2), (2, 3)], [])
+TRIANGLE = (3, [(0, 1), (0, 2), (1, 2), (0, 3)], [])
+ALIKE_ROADS = (2, [(0, 1), (0, 1), (0, 1), (1, 2), (1, 2)], [])
+STAR = (4, [(0, 4), (1, 4), (2, 4), (3, 4)], [])
+GRID = (8, [(0, 1), (1, 2), (2, 3), (4, 5), (5, 6), (6, 7), (0, 4), (1, 5), (2, 6), (3, 7), (0, 8), (7, 8), (7, 8)], [])
+FAR_END = (8, [(0, 1)] * 33 + [(place, place + 1) for place in range(1, 8)], [])
+ALL_TO_ALL = (8, list(itertools.combinations(range(9), 2)), [])
+FORTY_ROADS = (8, [(place, place + 1) for place in range(8)] * 5, [])
+PLAIN_NETS = [ONE_PLACE, ONE_PLACE_THREE_ROADS, PATH, TRIANGLE, ALIKE_ROADS, STAR, GRID, FAR_END, ALL_TO_ALL,
+              FORTY_ROADS]
+
+ONE_LANE = (1, [], [(0, 1)])
+LANES_ALONE = (3, [], [(0, 1), (1, 2), (2, 0), (2, 3)])
+ROADS_AND_LANES = (3, [(0, 1), (1, 3)], [(2, 0), (2, 0), (1, 2)])
+ALIKE_LANES = (2, [(0, 1)], [(0, 1), (0, 1), (1, 2), (1, 2), (1, 2)])
+UPSTREAM = (2, [], [(0, 1), (0, 1), (1, 2)])
+COMES_BACK = (8, [], [(place, place + 1) for place in range(8)] + [(place, 0) for place in range(1, 8)] + [(0, 1)])
+GOES_BACK = (8, [], [(0, 8)] + [(place, place - 1) for place in range(1, 8)] + [(place, 7) for place in range(7)])
+LANE_NETS = [ONE_LANE, LANES_ALONE, ROADS_AND_LANES, ALIKE_LANES, UPSTREAM, COMES_BACK, GOES_BACK]
+
+ALL_NETS = PLAIN_NETS + LANE_NETS
+
+
+def other_ends(net, place):
+    """The other end of each road that the place stands in and of each lane that leads from it."""
+    ends = []
+    for a, b in net[1]:
+        if a == place:
+            ends.append(b)
+        if b == place:
+            ends.append(a)
+    for a, b in net[2]:
+        if a == place:
+            ends.append(b)
+    return ends
+
+
+def span_of(net, place):
+    return len(other_ends(net, place))
+
+
+def spans_of(net):
+    return [span_of(net, place) for place in range(net[0])]
+
+
+def toll_of(net, place):
+    ends = other_ends(net, place)
+    return [-len(ends) if other == place else ends.count(other) for other in range(net[0])]
+
+
+def row_behind(net, row, counts):
+    behind = list(row)
+    for place, count in enumerate(counts):
+        for other, gain in enumerate(toll_of(net, place)):
+            behind[other] += count * gain
+    return behind
+
+
+def may_topple(net, heap):
+    return [place for place in range(net[0]) if heap[place] >= span_of(net, place)]
+
+
+def toppled_one_by_one(net, heap, pick, counts=None):
+    """The still heap and the counts when pick chooses, again and again, one of the places that may topple."""
+    ends = [other_ends(net, place) for place in range(net[0])]
+    heap = list(heap)
+    counts = list(counts or [0] * net[0])
+    while True:
+        ready = [place for place in range(net[0]) if heap[place] >= len(ends[place])]
+        if not ready:
+            return heap, counts
+        place = pick(ready)
+        heap[place] -= len(ends[place])
+        for end in ends[place]:
+            if end < net[0]:
+                heap[end] += 1
+        counts[place] += 1
+
+
+def solved(net, row):
+    """The fractions c with row = sum over the places of c by the toll taken from 0."""
+    many = net[0]
+    lines = [[Fraction(-toll_of(net, j)[i]) for j in range(many)] + [Fraction(row[i])] for i in range(many)]
+    for i in range(many):
+        swap = next(k for k in range(i, many) if lines[k][i] != 0)
+        lines[i], lines[swap] = lines[swap], lines[i]
+        lines[i] = [entry / lines[i][i] for entry in lines[i]]
+        for k in range(many):
+            if k != i:
+                lines[k] = [x - lines[k][i] * y for x, y in zip(lines[k], lines[i])]
+    return [line[many] for line in lines]
+
+
+def still_by_fractions(net, heap):
+    """The still heap of a heap of any size, in another way than by halves.
+
+    Counts that leave every place below its span are nowhere less than the fractions that leave span - 1 on each
+    place; from these, rounded up, every toppling of a place that may is one that is needed.
+    """
+    surplus = [grains - span + 1 for grains, span in zip(heap, spans_of(net))]
+    counts = [max(0, -((-c.numerator) // c.denominator)) for c in solved(net, surplus)]
+    return toppled_one_by_one(net, row_behind(net, heap, counts), min, counts)
+
+
+def steps_to_pit(many, roads, lanes):
+    """For each place the least number of steps to the pit, by growing the places that reach it."""
+    reached = {many: 0}
+    grown = True
+    while grown:
+        near = dict(reached)
+        for a, b in list(roads) + [(b, a) for a, b in roads] + list(lanes):
+            if b in reached and a not in reached:
+                near[a] = min(near.get(a, reached[b] + 1), reached[b] + 1)
+        grown = len(near) > len(reached)
+        reached = near
+    return [reached.get(place) for place in range(many)]
+
+
+def spans_multiplied(net):
+    product = 1
+    for span in spans_of(net):
+        product *= span
+    return product
+
+
+def some_ways(chance, many, most_roads, most_lanes):
+    roads = [tuple(sorted(chance.sample(range(many + 1), 2))) for turn in range(chance.randint(0, most_roads))]
+    lanes = []
+    for turn in range(chance.randint(0, most_lanes)):
+        a = chance.randrange(many)
+        lanes.append((a, chance.choice([b for b in range(many + 1) if b != a])))
+    return roads, lanes
+
+
+def some_nets(seed, how_many, most_lanes, most_places=8):
+    """Nets of all sizes, always the same ones for a seed."""
+    chance = random.Random(seed)
+    nets = []
+    while len(nets) < how_many:
+        many = chance.randint(1, most_places)
+        roads, lanes = some_ways(chance, many, 3 * many if most_lanes == 0 else many, most_lanes)
+        net = (many, roads, lanes)
+        if None in steps_to_pit(many, roads, lanes) or len(roads) + len(lanes) > 40:
+            continue
+        if lanes and spans_multiplied(net) > 300:
+            continue
+        nets.append(net)
+    return nets
