@@ -154,3 +154,91 @@ def some_nets(seed, how_many, most_lanes, most_places=8):
             continue
         nets.append(net)
     return nets
+
+
+def still_heaps(net):
+    return [list(heap) for heap in itertools.product(*[range(span) for span in spans_of(net)])]
+
+
+def roads_to(net, place, others):
+    """How many roads the place has to those others, pit or places."""
+    return sum(other_ends(net, place).count(other) for other in others)
+
+
+def rounds_by_words(net, heap):
+    """Point 13, round by round: who burns is written down first, then who burns next is looked for."""
+    rounds = [None] * net[0]
+    turn = 0
+    while True:
+        turn += 1
+        cold = [place for place in range(net[0]) if rounds[place] is None]
+        caught = [place for place in cold if heap[place] >= roads_to(net, place, cold)]
+        if not caught:
+            return rounds
+        for place in caught:
+            rounds[place] = turn
+
+
+def measure_by_sum(table):
+    """The measure by the sum that point 15 tells; what is left of the columns is summed up once alone."""
+    known = {}
+
+    def of_columns(row, columns):
+        if len(columns) == 1:
+            return table[row][columns[0]]
+        if columns not in known:
+            known[columns] = sum((-1) ** j * table[row][column] * of_columns(row + 1, columns[:j] + columns[j + 1:])
+                                 for j, column in enumerate(columns) if table[row][column])
+        return known[columns]
+
+    return of_columns(0, tuple(range(len(table))))
+
+
+def product_by_words(one, other):
+    size = len(one)
+    table = [[0] * size for i in range(size)]
+    for i, j, k in itertools.product(range(size), repeat=3):
+        table[i][j] += one[i][k] * other[k][j]
+    return table
+
+
+def ones(size):
+    return [[int(i == j) for j in range(size)] for i in range(size)]
+
+
+def some_table(chance, size, most):
+    return [[chance.randint(-most, most) for j in range(size)] for i in range(size)]
+
+
+def with_lines_mixed(chance, table, most):
+    """Rows added to rows and columns to columns, till the next such step would bring a number beyond most."""
+    size = len(table)
+    while size > 1:
+        i, j = chance.sample(range(size), 2)
+        times = chance.choice([-3, -2, -1, 1, 2, 3])
+        turned = [list(line) for line in zip(*table)] if chance.random() < 0.5 else [list(line) for line in table]
+        turned[i] = [x + times * y for x, y in zip(turned[i], turned[j])]
+        if max(abs(x) for line in turned for x in line) > most:
+            break
+        table = turned
+    return table
+
+
+def heaps_that_come_again(net):
+    """All still heaps of heaps with at least span - 1 grains on each place, sorted.
+
+    In whatever order places topple, such a heap comes to the same; so it is enough to begin with span - 1 on each
+    place and to add grain by grain.
+    """
+    waiting = [tuple(span - 1 for span in spans_of(net))]
+    found = set(waiting)
+    while waiting:
+        heap = waiting.pop()
+        for place in range(net[0]):
+            more = list(heap)
+            more[place] += 1
+            reached = tuple(toppled_one_by_one(net, more, min)[0])
+            if reached not in found:
+                found.add(reached)
+                waiting.append(reached)
+    return sorted(list(heap) for heap in found)

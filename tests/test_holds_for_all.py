@@ -3,10 +3,56 @@
 import copy
 import unittest
 
+from heapstill.fire import comes_again, fire
 from heapstill.nets import is_plain, leads, made_net
+from heapstill.smith import ring_tables
 from heapstill.still import least_paper, still
+from heapstill.tables import measure, product, shared_out
 from heapstill.tolls import after, span_list, toll_table
+from heapstill.ways import Picked, Together, Way, run
 from tests import samples
+
+TABLES = [[[5]], [[0, 1], [1, 0]], [[2, 4], [6, 8]], [[2, 4, 4], [-6, 6, 12], [10, -4, -16]], samples.ones(8),
+          [[10 ** 29 + (3 * i + j) ** 9 for j in range(4)] for i in range(4)]]
+
+
+def plain_chosen(net, heap):
+    return Way().chosen(net, heap)
+
+
+def together_chosen(net, heap):
+    return Together().chosen(net, heap)
+
+
+def picked_chosen(net, heap, picks):
+    """A picked way answers by what it was asked before, so each asking here is the first one of a way of its own."""
+    return Picked(picks).chosen(net, heap)
+
+
+def plain_run(net, heap):
+    return run(net, heap, Way())
+
+
+def together_run(net, heap):
+    return run(net, heap, Together())
+
+
+def picked_run(net, heap, picks):
+    return run(net, heap, Picked(picks))
+
+
+def questions_of_ways(net):
+    asked = []
+    for heap in [[0] * net[0], samples.spans_of(net)]:
+        asked += [(plain_chosen, (net, heap)), (together_chosen, (net, heap)), (picked_chosen, (net, heap, [4, 1])),
+                  (plain_run, (net, heap)), (together_run, (net, heap)), (picked_run, (net, heap, [4, 1, 1, 2]))]
+    return asked
+
+
+def questions_of_a_table(table):
+    row = list(range(1, len(table) + 1))
+    return [(product, (table, table)), (product, (table, samples.ones(len(table)))), (measure, (table,)),
+            (shared_out, (table, row)), (shared_out, (table, list(table[0]))), (ring_tables, (table,))]
 
 
 def questions_of_a_net(net):
@@ -17,8 +63,9 @@ def questions_of_a_net(net):
     asked = [(made_net, net), (leads, net), (is_plain, (net,)), (span_list, (net,)), (toll_table, (net,)),
              (after, (net, heap, counts)), (after, (net, small, small)), (still, (net, heap)), (still, (net, small))]
     if not net[2]:
-        asked += [(made_net, net[:2]), (least_paper, (net, heap)), (least_paper, (net, small))]
-    return asked
+        asked += [(made_net, net[:2]), (least_paper, (net, heap)), (least_paper, (net, small)), (fire, (net, heap)),
+                  (fire, (net, small)), (comes_again, (net, heap)), (comes_again, (net, small))]
+    return asked + questions_of_ways(net)
 
 
 def questions():
@@ -26,6 +73,8 @@ def questions():
     asked = []
     for net in samples.ALL_NETS:
         asked += questions_of_a_net(net)
+    for table in TABLES:
+        asked += questions_of_a_table(table)
     asked += [(leads, (2, [], [])), (leads, (8, [], [(0, 1)]))]
     return [(function, copy.deepcopy(handed)) for function, handed in asked]
 
@@ -68,6 +117,12 @@ class HoldsForAll(unittest.TestCase):
         row = [1, 2, 3]
         self.assertEqual(after(samples.PATH, row, row), samples.row_behind(samples.PATH, [1, 2, 3], [1, 2, 3]))
         self.assertEqual(row, [1, 2, 3])
+
+    def test_a_table_and_a_row_of_it_handed_in_as_one_list(self):
+        table = [[1, 2], [3, 4]]
+        self.assertEqual(shared_out(table, table[1]), ([0, 1], 1))
+        self.assertEqual(product(table, table), [[7, 10], [15, 22]])
+        self.assertEqual(table, [[1, 2], [3, 4]])
 
     def test_no_list_handed_in_is_handed_out(self):
         for function, handed in questions():
@@ -113,6 +168,29 @@ class HoldsForAll(unittest.TestCase):
         net[1].append((0, 2))
         self.assertEqual(span_list(net), [2, 2])
         self.assertEqual(still(net, [1, 0]), ([1, 0], [0, 0]))
+
+    def test_a_way_stands_when_its_answers_and_its_picks_are_changed(self):
+        picks = [1, 1, 1]
+        way = Picked(picks)
+        told = way.chosen(samples.STAR, [1, 1, 0, 1])
+        self.assertEqual(told, [1])
+        spoil((told, picks))
+        self.assertEqual(way.chosen(samples.STAR, [1, 1, 0, 1]), [1])
+        turns = run(samples.STAR, [1, 0, 1, 0], way)[2]
+        self.assertEqual(turns, [[2], [0]])
+        spoil(turns)
+        self.assertEqual(run(samples.STAR, [1, 0, 1, 0], way)[2], [[0], [2]])
+
+    def test_a_way_of_ones_own_that_hands_out_one_list_again(self):
+        class Same(Way):
+            def __init__(self):
+                self.told = []
+
+            def chosen(self, net, heap):
+                self.told[:] = Way.chosen(self, net, heap)
+                return self.told
+
+        self.assertEqual(run(samples.STAR, [1, 1, 0, 0], Same())[2], [[0], [1]])
 
     def test_equal_questions_with_others_between(self):
         first = [copy.deepcopy(function(*handed)) for function, handed in questions()]

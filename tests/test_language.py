@@ -23,6 +23,8 @@ METHODS = """append clear copy count endswith extend find get index insert isaln
 WORDS = """type typing typing_extensions enum Enum IntEnum StrEnum Flag IntFlag Generic Protocol ABC ABCMeta
     namedtuple NamedTuple TypedDict TYPE_CHECKING abstractmethod register mro elements open input eval exec
     getattr setattr globals locals""".split()
+WALKS = ["zip", "enumerate", "reversed", "range", "items", "keys", "values"]
+WALKERS = ["list", "tuple", "dict", "sorted", "sum", "any", "all", "enumerate", "zip", "min", "max"]
 DUNDERS = ["__init__", "__eq__", "__repr__", "__str__", "__len__"]
 
 
@@ -160,3 +162,33 @@ class Code(unittest.TestCase):
         for path, node in nodes(ast.Call):
             if isinstance(node.func, ast.Attribute):
                 self.assertIn(node.func.attr, METHODS + own, (path, node.lineno))
+
+    def test_walked_at_once(self):
+        for path, tree in trees():
+            walked = [node.iter for node in ast.walk(tree) if isinstance(node, (ast.For, ast.comprehension))]
+            for node in ast.walk(tree):
+                if isinstance(node, ast.Call) and isinstance(node.func, ast.Name) and node.func.id in WALKERS:
+                    walked += node.args if node.func.id == "zip" else node.args[:1]
+            for node in ast.walk(tree):
+                if isinstance(node, ast.Call):
+                    name = node.func.id if isinstance(node.func, ast.Name) else node.func.attr
+                    self.assertTrue(name not in WALKS or node in walked, (path, node.lineno))
+
+    def test_powers_have_a_written_exponent(self):
+        for path, node in nodes(ast.BinOp):
+            if isinstance(node.op, ast.Pow):
+                self.assertIsInstance(node.right, ast.Constant, (path, node.lineno))
+                self.assertLessEqual(node.right.value, 64, (path, node.lineno))
+
+    def test_no_value_is_called_like_a_method(self):
+        methods = [node.name for path, part in nodes(ast.ClassDef) for node in part.body
+                   if isinstance(node, ast.FunctionDef)]
+        for path, node in nodes(ast.Attribute):
+            if isinstance(node.ctx, ast.Store):
+                self.assertNotIn(node.attr, methods + METHODS, (path, node.lineno))
+
+    def test_no_sets_are_kept(self):
+        for path, node in nodes(ast.Set):
+            self.fail((path, node.lineno))
+        for path, node in nodes(ast.Name):
+            self.assertNotIn(node.id, ["set", "frozenset", "chr"], (path, node.lineno))
