@@ -19,6 +19,10 @@ def unit_table(size):
     return [unit_row(size, at) for at in range(size)]
 
 
+def opposite(line):
+    return [0 - entry for entry in line]
+
+
 def scalar(one, other):
     return sum([x * y for x, y in zip(one, other)])
 
@@ -69,7 +73,7 @@ def with_pivot(lines, at):
     swapped = list(lines)
     swapped[at] = lines[found[0]]
     # Two lines that change places turn the measure's sign; one of them taken from 0 turns it back.
-    swapped[found[0]] = [0 - entry for entry in lines[at]]
+    swapped[found[0]] = opposite(lines[at])
     return swapped
 
 

@@ -242,3 +242,32 @@ def heaps_that_come_again(net):
                 found.add(reached)
                 waiting.append(reached)
     return sorted(list(heap) for heap in found)
+
+
+def comes_again_by_words(net, heap):
+    """Point 13 for plain nets; for the others, of which each has at most 300 still heaps, point 19."""
+    if net[2]:
+        return heap in heaps_that_come_again(net)
+    return not may_topple(net, heap) and None not in rounds_by_words(net, heap)
+
+
+def all_trees_by_words(net):
+    """All choices of as many roads as places along which each place has a way to the pit."""
+    choices = itertools.combinations(range(len(net[1])), net[0])
+    return [list(tree) for tree in choices if None not in steps_to_pit(net[0], [net[1][number] for number in tree], [])]
+
+
+THREE_HUNDRED = (2, [(0, 2)] * 15 + [(1, 2)] * 20, [])
+THREE_HUNDRED_OF_THREE = (3, [(0, 3), (1, 3), (2, 3)] * 5 + [(1, 3)] + [(2, 3)] * 5, [])
+THREE_HUNDRED_BY_LANES = (2, [], [(0, 2)] * 15 + [(1, 2)] * 20)
+THREE_HUNDRED_AND_ONE = (2, [(0, 2)] * 7 + [(1, 2)] * 28 + [(0, 1)] * 3, [])
+
+SMALL_NETS = [ONE_PLACE, ONE_PLACE_THREE_ROADS, PATH, TRIANGLE, ALIKE_ROADS, STAR,
+              (3, [(0, 1), (0, 1), (1, 2), (1, 2), (1, 2), (2, 3)], []),
+              (3, [(0, 1), (0, 3), (0, 1), (1, 2), (0, 3), (1, 2), (2, 3)], []),
+              (4, [(0, 1), (1, 2), (2, 3), (0, 3), (0, 2), (3, 4), (1, 4)], []),
+              (4, [(0, 1), (0, 2), (0, 3), (0, 4), (1, 2), (1, 3), (1, 4), (2, 3), (2, 4), (3, 4)], []),
+              (2, [(0, 2), (0, 2), (1, 2), (1, 2)], [])]
+SMALL_LANE_NETS = LANE_NETS + [(2, [], [(0, 2), (0, 2), (1, 2), (1, 2)]),
+                               (3, [(0, 1), (1, 2)], [(0, 3), (0, 3), (1, 3), (2, 0), (2, 3), (2, 3)]),
+                               (4, [(0, 1), (2, 4)], [(0, 2), (1, 3), (1, 3), (3, 4), (3, 0), (2, 1), (0, 4)])]

@@ -9,9 +9,6 @@ from heapstill.fire import comes_again, fire
 from tests import samples
 
 HUGE = 10 ** 299
-SMALL_NETS = [samples.ONE_PLACE, samples.ONE_PLACE_THREE_ROADS, samples.PATH, samples.TRIANGLE, samples.ALIKE_ROADS,
-              samples.STAR, (3, [(0, 1), (0, 1), (1, 2), (1, 2), (1, 2), (2, 3)], []),
-              (4, [(0, 1), (1, 2), (2, 3), (0, 3), (0, 2), (3, 4), (1, 4)], [])]
 
 
 def some_heaps(seed, nets):
@@ -56,7 +53,7 @@ class Rounds(unittest.TestCase):
         self.assertEqual(fire((8, roads, []), [0] + [1] * 7), [8, 7, 6, 5, 4, 3, 2, 1])
 
     def test_every_small_heap_of_some_nets_against_the_words(self):
-        for net in SMALL_NETS:
+        for net in samples.SMALL_NETS:
             for heap in itertools.product(range(5), repeat=net[0]):
                 self.assertEqual(fire(net, list(heap)), samples.rounds_by_words(net, heap), (net, heap))
 
@@ -99,7 +96,7 @@ class WhatRoundsSay(unittest.TestCase):
         self.assertEqual(counts, [0 if turn is None else 1 for turn in rounds], (net, heap))
 
     def test_small_nets(self):
-        for net in SMALL_NETS:
+        for net in samples.SMALL_NETS:
             for heap in itertools.product(range(4), repeat=net[0]):
                 self.hold_grains(net, list(heap))
             for heap in samples.still_heaps(net):
@@ -135,7 +132,7 @@ class ComesAgain(unittest.TestCase):
 
     def test_every_still_heap_of_small_nets_against_what_grains_lead_to(self):
         """Point 19's meaning: what can be reached again and again by adding grains and toppling."""
-        for net in SMALL_NETS:
+        for net in samples.SMALL_NETS:
             reached = samples.heaps_that_come_again(net)
             for heap in samples.still_heaps(net):
                 self.assertIs(comes_again(net, heap), heap in reached, (net, heap))
@@ -147,7 +144,7 @@ class ComesAgain(unittest.TestCase):
 
     def test_barred_by_a_stretch_of_places(self):
         """Point 3: where a still heap does not come again, some places have fewer grains than roads among them."""
-        for net in SMALL_NETS:
+        for net in samples.SMALL_NETS:
             places = range(net[0])
             stretches = [some for size in places for some in itertools.combinations(places, size + 1)]
             for heap in samples.still_heaps(net):

@@ -3,12 +3,16 @@
 import copy
 import unittest
 
+from heapstill.alike import net_table, told_alike
 from heapstill.fire import comes_again, fire
 from heapstill.nets import is_plain, leads, made_net
+from heapstill.rings import all_again, heap_at, how_many, ring_lengths, ring_place
 from heapstill.smith import ring_tables
 from heapstill.still import least_paper, still
+from heapstill.sums import again, contrary, heap_sum, nought, times
 from heapstill.tables import measure, product, shared_out
 from heapstill.tolls import after, span_list, toll_table
+from heapstill.trees import all_trees, heap_of, tree_of
 from heapstill.ways import Picked, Together, Way, run
 from tests import samples
 
@@ -55,6 +59,29 @@ def questions_of_a_table(table):
             (shared_out, (table, row)), (shared_out, (table, list(table[0]))), (ring_tables, (table,))]
 
 
+def questions_of_rings(net):
+    small = [0] * net[0]
+    row = [9 - 7 * place for place in range(net[0])]
+    heap = [4 + place for place in range(net[0])]
+    asked = [(net_table, (net,)), (nought, (net,)), (how_many, (net,)), (ring_lengths, (net,)),
+             (told_alike, (net, row, small)), (told_alike, (net, row, row)), (heap_sum, (net, heap, small)),
+             (heap_sum, (net, heap, heap)), (times, (net, row, -3)), (times, (net, small, 1)),
+             (heap_at, (net, [length - 1 for length in ring_lengths(net)]))]
+    for each in [small, row, heap, nought(net)]:
+        asked += [(again, (net, each)), (contrary, (net, each)), (ring_place, (net, each))]
+    if how_many(net) <= 300:
+        asked.append((all_again, (net,)))
+    return asked
+
+
+def questions_of_trees(net):
+    heap = [span - 1 for span in samples.spans_of(net)]
+    asked = [(tree_of, (net, heap)), (tree_of, (net, nought(net))), (heap_of, (net, tree_of(net, heap)))]
+    if how_many(net) <= 300:
+        asked.append((all_trees, (net,)))
+    return asked
+
+
 def questions_of_a_net(net):
     many = net[0]
     heap = [3 + 5 * place for place in range(many)]
@@ -65,7 +92,8 @@ def questions_of_a_net(net):
     if not net[2]:
         asked += [(made_net, net[:2]), (least_paper, (net, heap)), (least_paper, (net, small)), (fire, (net, heap)),
                   (fire, (net, small)), (comes_again, (net, heap)), (comes_again, (net, small))]
-    return asked + questions_of_ways(net)
+        asked += questions_of_trees(net)
+    return asked + questions_of_ways(net) + questions_of_rings(net)
 
 
 def questions():
@@ -191,6 +219,16 @@ class HoldsForAll(unittest.TestCase):
                 return self.told
 
         self.assertEqual(run(samples.STAR, [1, 1, 0, 0], Same())[2], [[0], [1]])
+
+    def test_lists_of_lists_changed_one_by_one(self):
+        for function, net in [(all_again, samples.TRIANGLE), (all_again, samples.ALIKE_LANES), (net_table, samples.PATH),
+                              (all_trees, samples.TRIANGLE), (all_trees, samples.ALIKE_ROADS)]:
+            told = function(net)
+            kept = copy.deepcopy(told)
+            for at in range(len(told)):
+                told[at].clear()
+                self.assertEqual([len(line) for line in told[at + 1:]], [len(line) for line in kept[at + 1:]])
+                self.assertEqual(function(net), kept)
 
     def test_equal_questions_with_others_between(self):
         first = [copy.deepcopy(function(*handed)) for function, handed in questions()]
