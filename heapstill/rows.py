@@ -6,7 +6,7 @@ from heapstill.errors import NoHeap, NoRow
 def need_rows(net, rows):
     for row in rows:
         if len(row) != net[0]:
-            raise NoRow("a row has one number for each place of the net")
+            raise NoRow("a row has one number for each place of the net, a full row one more")
 
 
 def need_heaps(net, heaps):

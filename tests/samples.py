@@ -271,3 +271,71 @@ SMALL_NETS = [ONE_PLACE, ONE_PLACE_THREE_ROADS, PATH, TRIANGLE, ALIKE_ROADS, STA
 SMALL_LANE_NETS = LANE_NETS + [(2, [], [(0, 2), (0, 2), (1, 2), (1, 2)]),
                                (3, [(0, 1), (1, 2)], [(0, 3), (0, 3), (1, 3), (2, 0), (2, 3), (2, 3)]),
                                (4, [(0, 1), (2, 4)], [(0, 2), (1, 3), (1, 3), (3, 4), (3, 0), (2, 1), (0, 4)])]
+
+
+def full_spans(net):
+    """The spans of all places and, last, how many roads the pit has."""
+    return spans_of(net) + [span_of(net, net[0])]
+
+
+def full_toppled(net, full, spots):
+    """Point 27: the spots, places or the pit, topple one by one, in their order."""
+    row = list(full)
+    for spot in spots:
+        for end in other_ends(net, spot):
+            row[spot] -= 1
+            row[end] += 1
+    return row
+
+
+def full_behind(net, full, counts):
+    """Point 27, road by road: what each end gives the other as often as it topples."""
+    row = list(full)
+    for a, b in net[1]:
+        row[a] += counts[b] - counts[a]
+        row[b] += counts[a] - counts[b]
+    return row
+
+
+def shares(total, spots):
+    """All lists of so many numbers from 0 on that come to the total."""
+    if spots == 1:
+        return [[total]]
+    return [[first] + rest for first in range(total + 1) for rest in shares(total - first, spots - 1)]
+
+
+class Debts:
+    """Points 29 and 30 by their words, for one plain net: what is alike is told by fractions, all grains are tried."""
+
+    def __init__(self, net):
+        self.net = net
+        units = [[int(place == at) for place in range(net[0])] for at in range(net[0])]
+        # What a grain on each place is as fractions of tolls; one in the pit has no part in it.
+        self.parts = [solved(net, unit) for unit in units] + [[Fraction(0)] * net[0]]
+        self.good = {}
+        self.known = {}
+
+    def kind_of(self, full):
+        """Two full rows are alike just where this is the same: all grains, and what is left of the fractions."""
+        sums = [sum(number * part[at] for number, part in zip(full, self.parts)) for at in range(self.net[0])]
+        return (sum(full), tuple(number % 1 for number in sums))
+
+    def can_be_made_good(self, full):
+        total = sum(full)
+        if total < 0:
+            return False
+        if total not in self.good:
+            self.good[total] = {self.kind_of(row) for row in shares(total, self.net[0] + 1)}
+        return self.kind_of(full) in self.good[total]
+
+    def all_can(self, full, taken):
+        rows = shares(taken, self.net[0] + 1)
+        return all(self.can_be_made_good([x - y for x, y in zip(full, row)]) for row in rows)
+
+    def worth(self, full):
+        kind = self.kind_of(full)
+        if kind not in self.known:
+            self.known[kind] = -1
+            while self.all_can(full, self.known[kind] + 1):
+                self.known[kind] += 1
+        return self.known[kind]

@@ -4,6 +4,9 @@ import copy
 import unittest
 
 from heapstill.alike import net_table, told_alike
+from heapstill.debts import full_after, lowest, made_good
+from heapstill.desk import Desk
+from heapstill.errors import HeapError
 from heapstill.fire import comes_again, fire
 from heapstill.nets import is_plain, leads, made_net
 from heapstill.rings import all_again, heap_at, how_many, ring_lengths, ring_place
@@ -12,8 +15,10 @@ from heapstill.still import least_paper, still
 from heapstill.sums import again, contrary, heap_sum, nought, times
 from heapstill.tables import measure, product, shared_out
 from heapstill.tolls import after, span_list, toll_table
+from heapstill.texts import net_text, read_net, read_row, row_text
 from heapstill.trees import all_trees, heap_of, tree_of
 from heapstill.ways import Picked, Together, Way, run
+from heapstill.worth import counterpart, row_worth
 from tests import samples
 
 TABLES = [[[5]], [[0, 1], [1, 0]], [[2, 4], [6, 8]], [[2, 4, 4], [-6, 6, 12], [10, -4, -16]], samples.ones(8),
@@ -82,6 +87,35 @@ def questions_of_trees(net):
     return asked
 
 
+def questions_of_debts(net):
+    zeros = [0] * (net[0] + 1)
+    full = [4 - 3 * spot for spot in range(net[0] + 1)]
+    asked = []
+    for each in [zeros, full, lowest(net, full)[0]]:
+        asked += [(full_after, (net, each, zeros)), (full_after, (net, each, full)), (lowest, (net, each)),
+                  (made_good, (net, each)), (counterpart, (net, each))]
+        if net[0] <= 4:
+            asked.append((row_worth, (net, each)))
+    return asked
+
+
+def questions_of_texts(net):
+    return [(net_text, (net,)), (read_net, (net_text(net),)), (row_text, (samples.spans_of(net),)),
+            (read_row, (row_text(samples.spans_of(net)),)), (row_text, ([],)), (read_row, ("",)),
+            (desk_told, (net_text(net), [samples.spans_of(net), [0] * net[0]]))]
+
+
+def desk_told(text, heaps):
+    """What a desk of its own answers, each time to the same commands: a desk answers by what it was asked before."""
+    desk = Desk()
+    told = [desk.say("net " + text), desk.say(f"heap a {row_text(heaps[0])}"), desk.say(f"heap b {row_text(heaps[1])}"),
+            desk.say("add c a b"), desk.say("again d c")]
+    for command in ["names", "rings", "many", "nought", "alike a d", "show c", "still a", "counts a", "comes d",
+                    "place b"]:
+        told.append(desk.say(command))
+    return told
+
+
 def questions_of_a_net(net):
     many = net[0]
     heap = [3 + 5 * place for place in range(many)]
@@ -92,8 +126,8 @@ def questions_of_a_net(net):
     if not net[2]:
         asked += [(made_net, net[:2]), (least_paper, (net, heap)), (least_paper, (net, small)), (fire, (net, heap)),
                   (fire, (net, small)), (comes_again, (net, heap)), (comes_again, (net, small))]
-        asked += questions_of_trees(net)
-    return asked + questions_of_ways(net) + questions_of_rings(net)
+        asked += questions_of_trees(net) + questions_of_debts(net)
+    return asked + questions_of_ways(net) + questions_of_rings(net) + questions_of_texts(net)
 
 
 def questions():
@@ -229,6 +263,51 @@ class HoldsForAll(unittest.TestCase):
                 told[at].clear()
                 self.assertEqual([len(line) for line in told[at + 1:]], [len(line) for line in kept[at + 1:]])
                 self.assertEqual(function(net), kept)
+
+    def test_a_full_row_and_counts_handed_in_as_one_list(self):
+        row = [1, 2, 3, 4]
+        behind = samples.full_behind(samples.PATH, [1, 2, 3, 4], [1, 2, 3, 4])
+        self.assertEqual(full_after(samples.PATH, row, row), behind)
+        self.assertEqual(row, [1, 2, 3, 4])
+
+    def test_two_texts_read_are_two_nets(self):
+        one = read_net("2 0-1*2 1-2")
+        one[1].append((0, 2))
+        one[2].append((0, 1))
+        self.assertEqual(read_net("2 0-1*2 1-2"), (2, [(0, 1), (0, 1), (1, 2)], []))
+        row = read_row("")
+        row.append(1)
+        self.assertEqual(read_row(""), [])
+
+    def test_two_desks_beside_one_another(self):
+        one, other = Desk(), Desk()
+        self.assertEqual(one.say("net 1 0-1*3"), "ok")
+        with self.assertRaises(HeapError):
+            other.say("names")
+        self.assertEqual(other.say("net 2 0-1 1-2"), "ok")
+        self.assertEqual([one.say("heap a 5"), other.say("heap a 5 5"), other.say("heap b 0 1")], ["ok"] * 3)
+        self.assertEqual([one.say("names"), other.say("names")], ["a", "a b"])
+        self.assertEqual([one.say("show a"), other.say("show a")], ["5", "5 5"])
+        self.assertEqual([one.say("still a"), other.say("still a")], ["2", "0 1"])
+        self.assertEqual([one.say("many"), other.say("many")], ["3", "1"])
+        self.assertEqual([one.say("drop a"), one.say("names"), other.say("names")], ["ok", "", "a b"])
+        self.assertEqual([one.say("net 1 0-1"), other.say("show b"), other.say("nought")], ["ok", "0 1", "0 1"])
+        self.assertEqual([Desk().say("net 1 0-1"), other.say("names")], ["ok", "a b"])
+
+    def test_asking_a_desk_changes_nothing_that_it_keeps(self):
+        for net in samples.ALL_NETS:
+            desk = Desk()
+            heap = row_text([3 * span for span in samples.spans_of(net)])
+            desk.say("net " + net_text(net))
+            desk.say("heap a " + heap)
+            desk.say("heap b " + heap)
+            for command in ["still a", "counts a", "comes a", "place a", "alike a b", "add c a b", "again d a", "rings",
+                            "nought", "fire a", "many", "add c c a", "drop b", "again b a", "add d d d"]:
+                try:
+                    desk.say(command)
+                except HeapError:
+                    pass
+                self.assertEqual(desk.say("show a"), heap, (net, command))
 
     def test_equal_questions_with_others_between(self):
         first = [copy.deepcopy(function(*handed)) for function, handed in questions()]

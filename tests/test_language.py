@@ -100,6 +100,22 @@ class Modules(unittest.TestCase):
             for node in tree.body[1:]:
                 self.assertIsInstance(node, (ast.ImportFrom, ast.FunctionDef, ast.ClassDef, ast.Assign), path)
 
+    def test_lists_and_dicts_of_a_files_top_are_only_read(self):
+        for path, tree in trees():
+            kept = {}
+            for node in tree.body:
+                if isinstance(node, ast.Assign):
+                    kept[node.targets[0].id] = node.value
+                    for part in list(ast.walk(node.value))[1:]:
+                        self.assertNotIsInstance(part, (ast.List, ast.Dict, ast.ListComp, ast.Call), path)
+            names = [name for name in kept if isinstance(kept[name], (ast.List, ast.Dict))]
+            read = [node.value for node in ast.walk(tree)
+                    if isinstance(node, ast.Subscript) and isinstance(node.ctx, ast.Load)]
+            read += [side for node in ast.walk(tree) if isinstance(node, ast.Compare) for side in node.comparators]
+            for node in ast.walk(tree):
+                if isinstance(node, ast.Name) and node.id in names and isinstance(node.ctx, ast.Load):
+                    self.assertIn(node, read, (path, node.lineno))
+
 
 class Code(unittest.TestCase):
     def test_statements(self):
@@ -125,6 +141,13 @@ class Code(unittest.TestCase):
         for path, node in nodes(ast.Compare):
             if any(isinstance(op, (ast.Is, ast.IsNot)) for op in node.ops):
                 self.assertTrue(all(isinstance(side, ast.Constant) for side in node.comparators), (path, node.lineno))
+
+    def test_texts(self):
+        for path, node in nodes(ast.FormattedValue):
+            self.assertIsInstance(node.value, ast.Name, (path, node.lineno))
+            self.assertIsNone(node.format_spec, (path, node.lineno))
+        for path, node in nodes(ast.Constant):
+            self.assertNotIn("%", str(node.value), (path, node.lineno))
 
     def test_functions_and_classes(self):
         for path, node in nodes(ast.FunctionDef, ast.ClassDef):
